@@ -1,0 +1,1 @@
+"""Pageskips: pages that need not be read."""
