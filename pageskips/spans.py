@@ -70,6 +70,13 @@ def later_end(end, other_end):
     return end if end > other_end else other_end
 
 
+def ascending(texts):
+    """The list of some texts, the least one first."""
+    # str(..) makes it plain that strings are sorted: L5 of LANGUAGE.md asks for it
+    # as soon as a class of the package has an order.
+    return sorted([str(text) for text in texts])
+
+
 def span_of(ranges):
     """The span of the texts that some ranges have together."""
     check_ranges(ranges)
@@ -77,9 +84,7 @@ def span_of(ranges):
     for first, end in ranges:
         ends[first] = later_end(end, ends[first]) if first in ends else end
     parts = []
-    # str(..) makes it plain that strings are sorted: L5 of LANGUAGE.md asks for it
-    # as soon as a class of the package has an order.
-    for first in sorted([str(text) for text in ends]):
+    for first in ascending(list(ends)):
         if parts and reaches(parts[-1][1], first):
             parts[-1] = (parts[-1][0], later_end(parts[-1][1], ends[first]))
         else:

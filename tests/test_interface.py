@@ -1,4 +1,4 @@
-"""[2], [9] to [11]: the names of the interface, their files and their arguments."""
+"""[2], [9] to [14]: the names of the interface, their files and their arguments."""
 
 import importlib
 import inspect
@@ -15,6 +15,19 @@ FUNCTIONS = {
         "is_filter": ["value"], "answer": ["query", "value"], "selection": ["query"],
         "alike": ["one", "other"], "parting": ["one", "other"], "within": ["one", "other"],
         "picked": ["query", "column"], "filter_of": ["lacking", "span"],
+    },
+    "notes": {
+        "is_rule": ["value"], "is_page": ["value"], "is_note": ["rule", "value"], "note": ["rule", "page"],
+        "texts_of": ["rule", "note"], "lacking_of": ["rule", "note"], "bars": ["rule", "note", "query"],
+        "grants": ["rule", "note", "query"], "page_for": ["rule", "note", "query"],
+    },
+    "readers": {
+        "lost": ["maker", "belief", "page", "query"], "loses": ["maker", "belief"],
+        "least_loss": ["maker", "belief"], "tells": ["maker", "belief"], "untold": ["maker", "belief"],
+    },
+    "codes": {
+        "is_code": ["value"], "signs": ["code", "page"], "note_signs": ["rule", "page"], "best_code": ["page"],
+        "cheapest": ["rule", "column", "most"],
     },
 }
 
